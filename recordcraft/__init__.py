@@ -1,0 +1,1 @@
+"""Recordcraft: kinds of records from declared fields."""
