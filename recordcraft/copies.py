@@ -25,6 +25,8 @@ def deep_copy(value):
 
 
 def _copy_of(value):
+    if type(value) is int or type(value) is str:
+        return value
     sort = sort_of(value)
     if sort == "tuple":
         return tuple([_copy_of(item) for item in value])

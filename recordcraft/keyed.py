@@ -1,11 +1,12 @@
 """Which values can be keys, and which ones are the same key. The values are known not to be too deep."""
 
-from recordcraft.orders import field_values
 from recordcraft.sorts import SIMPLE_SORTS, sort_of
 
 
 def can_be_key(value):
     """Returns whether a value of any kind is keyable."""
+    if type(value) is int or type(value) is str:
+        return True
     sort = sort_of(value)
     if sort == "tuple":
         return _can_all_be_keys(value)
@@ -16,6 +17,8 @@ def can_be_key(value):
 
 def is_matching(one, other):
     """Returns whether two values, of which it is known that they are keyable, are the same key."""
+    if type(one) is type(other) and (type(one) is int or type(one) is str):
+        return one == other
     sort = sort_of(one)
     if sort != sort_of(other):
         return False
@@ -28,12 +31,12 @@ def is_matching(one, other):
 
 def key_values(record):
     """Returns the values of the fields that count in keys; raises Unset for the first one that is not set."""
-    return field_values(record, record.kind.key_names)
+    return record.values_of(record.kind.key_names)
 
 
 def _can_all_be_keys(values):
     # All of them are looked at, since a later one can raise Unset.
-    judged = [can_be_key(value) for value in values]
+    judged = [can_be_key(value) for value in values if type(value) is not int and type(value) is not str]
     return all(judged)
 
 
@@ -49,7 +52,10 @@ def _are_items_matching(one, other):
     if len(one) != len(other):
         return False
     for first, second in zip(one, other):
-        if not is_matching(first, second):
+        if type(first) is int and type(second) is int:
+            if first != second:
+                return False
+        elif not is_matching(first, second):
             return False
     return True
 

@@ -1,6 +1,6 @@
 """When two values are equal, and which one comes first. The values are known not to be too deep."""
 
-from recordcraft.errors import NotOrdered, Unset
+from recordcraft.errors import NotOrdered
 from recordcraft.sorts import SIMPLE_SORTS, sort_of
 
 ORDERED_SORTS = ("truth", "integer", "text")
@@ -8,33 +8,73 @@ ORDERED_SORTS = ("truth", "integer", "text")
 
 def is_equal(one, other):
     """Returns whether two values are equal."""
+    # The sorts that occur most often are known by their classes, without a call.
+    if type(one) is type(other):
+        if type(one) is int or type(one) is str or one is None or type(one) is bool:
+            return one == other
+        if type(one) is list or type(one) is tuple:
+            return len(one) == len(other) and _are_items_equal(one, other)
     sort = sort_of(one)
     if sort != sort_of(other):
         return False
+    if sort == "record":
+        return are_records_equal(one, other)
     if sort in SIMPLE_SORTS:
         return one == other
-    if sort == "tuple" or sort == "list":
-        return len(one) == len(other) and _are_items_equal(one, other)
     if sort == "dict":
         return _are_dicts_equal(one, other)
-    return sort == "record" and _are_records_equal(one, other)
+    return sort != "other" and len(one) == len(other) and _are_items_equal(one, other)
+
+
+def are_records_equal(one, other):
+    """Returns whether two records are equal."""
+    kind = one.kind
+    if kind != other.kind:
+        return False
+    if not kind.equal:
+        return one.is_itself(other)
+    one.check_set(other)
+    return _are_items_equal(one.compared_values(), other.compared_values())
 
 
 def order_of(one, other):
-    """Returns -1, 0 or 1, as the first value comes before the other one, is equal to it, or comes behind."""
+    """Returns -1, 0 or 1, as the first value comes before the other one, is equal to it, or comes behind.
+
+    The first parts that are not equal decide, so that what is behind them is not looked at.
+    """
+    if type(one) is type(other):
+        if type(one) is int or type(one) is str or one is None or type(one) is bool:
+            return 0 if one == other else -1 if one < other else 1
+        if type(one) is tuple:
+            return _order_of_items(one, other)
+    sort = sort_of(one)
+    if sort != sort_of(other):
+        raise NotOrdered()
+    if sort == "tuple":
+        return _order_of_items(one, other)
+    if sort == "record" and one.kind.order:
+        return order_of_records(one, other)
     if is_equal(one, other):
         return 0
-    return _order_of_unequal(one, other)
+    if sort not in ORDERED_SORTS:
+        raise NotOrdered()
+    return -1 if one < other else 1
 
 
-def field_values(record, names):
-    """Returns the values of these fields; raises Unset for the first one that is not set."""
-    return [record[name] for name in names]
+def order_of_records(one, other):
+    """Returns -1, 0 or 1 for two records, of which the first one has a kind with order."""
+    if one.kind != other.kind:
+        raise NotOrdered()
+    one.check_set(other)
+    return _order_of_items(one.compared_values(), other.compared_values())
 
 
 def _are_items_equal(one, other):
     for first, second in zip(one, other):
-        if not is_equal(first, second):
+        if type(first) is int and type(second) is int:
+            if first != second:
+                return False
+        elif not is_equal(first, second):
             return False
     return True
 
@@ -51,35 +91,14 @@ def _are_dicts_equal(one, other):
     return True
 
 
-def _are_records_equal(one, other):
-    kind = one.kind
-    if kind != other.kind:
-        return False
-    if not kind.equal:
-        return one.is_itself(other)
-    names = kind.compare_names
-    for name in names:
-        if name not in one or name not in other:
-            raise Unset(name)
-    return _are_items_equal(field_values(one, names), field_values(other, names))
-
-
-def _order_of_unequal(one, other):
-    sort = sort_of(one)
-    if sort != sort_of(other):
-        raise NotOrdered()
-    if sort in ORDERED_SORTS:
-        return -1 if one < other else 1
-    if sort == "tuple":
-        return _order_of_items(one, other)
-    if sort != "record" or one.kind != other.kind or not one.kind.order:
-        raise NotOrdered()
-    names = one.kind.compare_names
-    return _order_of_items(field_values(one, names), field_values(other, names))
-
-
 def _order_of_items(one, other):
     for first, second in zip(one, other):
-        if not is_equal(first, second):
-            return _order_of_unequal(first, second)
+        if type(first) is int and type(second) is int:
+            order = 0 if first == second else -1 if first < second else 1
+        else:
+            order = order_of(first, second)
+        if order != 0:
+            return order
+    if len(one) == len(other):
+        return 0
     return -1 if len(one) < len(other) else 1

@@ -2,7 +2,7 @@
 
 from recordcraft.errors import Frozen, NoField, NoMethod, NotInLine, NotKeyable, NotOrdered, Unset
 from recordcraft.keyed import can_be_key, is_matching
-from recordcraft.orders import is_equal, order_of
+from recordcraft.orders import are_records_equal, is_equal, order_of, order_of_records
 from recordcraft.showing import text_of
 from recordcraft.sorts import Fielded, check_depth
 
@@ -41,6 +41,41 @@ class Record(Fielded):
         if self._kind.frozen and (self._is_made or name in self._values):
             raise Frozen(name)
         self._values[name] = value
+
+    def state_of(self, name):
+        """Returns a tuple with the value of a field, or an empty one if there is no field or it is not set."""
+        return (self._values[name],) if name in self else ()
+
+    def put_back(self, name, state):
+        """Gives a field, which is set now, the state that it had before."""
+        if state:
+            self._values[name] = state[0]
+        else:
+            del self._values[name]
+
+    def parts(self):
+        """Returns the values of all fields that are set as a new list, in any order."""
+        return list(self._values.values())
+
+    def values_of(self, names):
+        """Returns the values of these fields as a new list; raises Unset for the first one that is not set."""
+        for name in names:
+            if name not in self._values:
+                raise Unset(name)
+        return [self._values[name] for name in names]
+
+    def compared_values(self):
+        """Returns the values of the fields with compare, all of which are known to be set, as a new list."""
+        return [self._values[name] for name in self._kind.compare_names]
+
+    def check_set(self, other):
+        """Raises Unset for the first field with compare that is not set in one of two records of this kind."""
+        many = len(self._kind.field_names)
+        if len(self._values) == many and len(other._values) == many:
+            return
+        for name in self._kind.compare_names:
+            if name not in self._values or name not in other._values:
+                raise Unset(name)
 
     def entries(self):
         """Yields the names and values of all fields that are set."""
@@ -94,7 +129,9 @@ class Record(Fielded):
     def __eq__(self, other):
         if not isinstance(other, Record):
             return False
-        return are_equal(self, other)
+        check_depth(self)
+        check_depth(other)
+        return are_records_equal(self, other)
 
     def __lt__(self, other):
         if not isinstance(other, Record):
@@ -148,4 +185,4 @@ def _order_of_records(one, other):
     # Unlike compare, the operators do not ask first whether the records are equal.
     if not one.kind.order:
         raise NotOrdered()
-    return order_of(one, other)
+    return order_of_records(one, other)

@@ -12,7 +12,7 @@ FOLDER = pathlib.Path(recordcraft.__file__).parent
 FILES = sorted(FOLDER.glob("*.py"))
 BUILTINS = {"len", "range", "enumerate", "zip", "min", "max", "sum", "abs", "sorted", "int", "str", "bool", "list",
             "tuple", "dict", "isinstance", "any", "all", "ValueError", "TypeError", "NotImplemented", "super",
-            "property", "classmethod"}
+            "property", "classmethod", "type"}
 DOUBLE = {"__init__", "__eq__", "__len__", "__bool__", "__iter__", "__lt__", "__le__", "__add__", "__contains__",
           "__getitem__", "__setitem__", "__slots__"}
 METHODS = {"append", "extend", "get", "index", "items", "join", "pop", "remove", "replace", "setdefault", "update",
@@ -20,10 +20,11 @@ METHODS = {"append", "extend", "get", "index", "items", "join", "pop", "remove",
            "partition", "clear", "reverse", "keys"}
 STATEMENTS = (ast.FunctionDef, ast.ClassDef, ast.Return, ast.Delete, ast.Assign, ast.AugAssign, ast.For, ast.While,
               ast.If, ast.Raise, ast.Try, ast.Assert, ast.ImportFrom, ast.Expr, ast.Pass, ast.Break, ast.Continue)
-BARRED = {"register", "mro", "elements", "open", "input", "law", "version_info", "with_traceback", "add_note", "type",
+BARRED = {"register", "mro", "elements", "open", "input", "law", "version_info", "with_traceback", "add_note",
           "typing", "enum", "Enum", "Flag", "Generic", "Protocol", "ABC", "namedtuple", "dataclass", "overload",
           "eval", "exec", "exit", "getattr", "hasattr", "setattr", "id", "vars", "dir", "globals", "locals", "os",
           "sys", "compile", "args", "format", "chr", "print", "hash", "frozenset", "float", "set", "iter", "next"}
+CLASSES = {"int", "str", "bool", "list", "tuple", "dict"}
 BUILTIN_NAMES = set(dir(__builtins__) if not isinstance(__builtins__, dict) else __builtins__)
 
 
@@ -31,6 +32,11 @@ def trees():
     for path in FILES:
         text = path.read_text(encoding="ascii")
         yield path, text, ast.parse(text)
+
+
+def is_class_of(node):
+    """Whether a part of a comparison is written as type(x)."""
+    return isinstance(node, ast.Call) and getattr(node.func, "id", None) == "type" and len(node.args) == 1
 
 
 def functions_of(tree):
@@ -77,7 +83,7 @@ class LanguageTest(unittest.TestCase):
                     self.assertIsInstance(node.value.value, str)
                 elif isinstance(node, ast.Assign):
                     self.assertEqual(len(node.targets), 1)
-                    self.assertIsInstance(ast.literal_eval(node.value), (int, str, tuple))
+                    self.assertIsInstance(ast.literal_eval(node.value), (int, str, tuple, dict))
                 else:
                     self.assertIsInstance(node, (ast.ImportFrom, ast.FunctionDef, ast.ClassDef), path)
 
@@ -141,7 +147,20 @@ class LanguageTest(unittest.TestCase):
                 if isinstance(node, ast.Compare) and isinstance(node.ops[0], (ast.Is, ast.IsNot)):
                     left, right = node.left, node.comparators[0]
                     plain = isinstance(right, ast.Constant) and right.value in (None, True, False)
-                    self.assertTrue(plain or getattr(left, "id", None) == "self", (path, node.lineno))
+                    of_class = is_class_of(left) and (is_class_of(right) or getattr(right, "id", None) in CLASSES)
+                    self.assertEqual(len(node.ops), 1)
+                    self.assertTrue(plain or of_class or getattr(left, "id", None) == "self", (path, node.lineno))
+
+    def test_class_of_a_value_is_only_compared(self):
+        """type(x) stands beside `is` and `is not`, and nowhere else."""
+        for path, text, tree in trees():
+            self.assertNotIn("(type)", text, path)
+            compared = [one for node in ast.walk(tree) if isinstance(node, ast.Compare)
+                        and isinstance(node.ops[0], (ast.Is, ast.IsNot)) for one in (node.left, *node.comparators)]
+            called = [one.func for one in compared if is_class_of(one)]
+            for node in ast.walk(tree):
+                if isinstance(node, ast.Name) and node.id == "type":
+                    self.assertTrue(any(node is one for one in called), (path, node.lineno))
 
     def test_strings(self):
         for path, text, _ in trees():

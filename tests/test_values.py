@@ -333,3 +333,80 @@ class TooDeepTest(CraftTestCase):
         self.assertEqual(compare(build(1), build(2)), -1)
         self.assertEqual(compare(build(2), build(2)), 0)
         self.assertLess(time.monotonic() - started, 5)
+
+
+class DepthTest(CraftTestCase):
+    """When a value is too deep, where it is judged in a quick way."""
+
+    def test_long_rows(self):
+        self.assertIs(are_equal([0] * 4999, 0), False)
+        self.assertIs(are_equal([[0] for _ in range(2499)], 0), False)
+        self.check_error(TooDeep, {}, are_equal, [[0] for _ in range(2500)], 0)
+        self.assertIs(are_equal([0] * 4999, [0] * 4998 + [1]), False)
+        self.assertIs(are_equal([0] * 4999, [0] * 4998 + [False]), False)
+        for simple in (None, True, False, 7, "a", 10 ** 999):
+            self.assertIs(are_equal([simple] * 4999, [simple] * 4999), True)
+            self.check_error(TooDeep, {}, are_equal, [simple] * 5000, 0)
+            self.assertIs(are_equal([[simple], *[simple] * 4997], 0), False)
+            self.check_error(TooDeep, {}, are_equal, [[simple], *[simple] * 4998], 0)
+
+    def test_parts_that_occur_twice(self):
+        for join in (lambda part: [part, part], lambda part: (part, part), lambda part: {"a": part, "b": part},
+                     lambda part: POINT.make(part, part), lambda part: [1, part, part]):
+            value = []
+            for _ in range(60):
+                value = join(value)
+            self.check_error(TooDeep, {}, are_equal, value, 0)
+
+    def test_a_value_that_contains_itself_at_the_end(self):
+        value = [1]
+        value.append(value)
+        self.check_error(TooDeep, {}, are_equal, value, 0)
+
+    def test_small_values(self):
+        kind = Kind("K", Field("x"), Field("y"), Field("z"), order=True)
+        one, other = kind.make(1, 2, 3), kind.make(1, 2, 4)
+        self.assertIs(one < other, True)
+        self.assertIs(one == other, False)
+        self.check_same(compare((1, 2), (1, 3)), -1)
+        self.check_same(compare(1, 2), -1)
+
+    def test_levels_below_a_wide_one(self):
+        """The first parts, or others, of a level with many values go on for so many levels."""
+        for outside in range(49):
+            for many in (1, 49, 50, 51, 60):
+                for place in (0, many):
+                    for more in (0, 1):
+                        row = [[]] * many
+                        row.insert(place, nested_tuple(49 - outside + more))
+                        value = nested(outside, row)
+                        if more:
+                            self.check_error(TooDeep, {}, are_equal, value, 0)
+                        else:
+                            self.assertIs(are_equal(value, 0), False)
+
+    def test_counts_on_every_level(self):
+        for levels in range(1, 49):
+            for sort in (list, tuple):
+                # The rows on the way have two values each, besides the one that holds all others.
+                value = sort([0] * (5000 - 2 * levels - 1))
+                for _ in range(levels):
+                    value = [1, value]
+                self.assertIs(is_keyable(value), False)
+                self.check_error(TooDeep, {}, is_keyable, [value])
+
+    def test_values_of_classes_below(self):
+        class Number(int):
+            pass
+
+        class Row(list):
+            pass
+
+        class Table(dict):
+            pass
+        self.assertIs(are_equal(Number(5), 5), True)
+        self.assertIs(are_equal([Number(5)], Row([5])), True)
+        self.assertIs(are_equal(Table(a=Row()), {"a": []}), True)
+        self.check_same(compare((Number(5),), (6,)), -1)
+        self.check_error(TooDeep, {}, shown, Row([0] * 5000))
+        self.check_error(TooDeep, {}, shown, [Table(a=Row([0] * 4998))])
