@@ -68,6 +68,7 @@ class Kind(Lined):
         self.fields = tuple([member for member, _ in data if isinstance(member, Field)])
         self.field_names = tuple([field.name for field in self.fields])
         self.compare_names = tuple([field.name for field in self.fields if field.compare])
+        self.show_names = tuple([field.name for field in self.fields if field.show])
         self.key_names = tuple([field.name for field in self.fields if field.is_key()])
         self._init_only = [member for member, _ in data if isinstance(member, InitOnly)]
         self._by_position = [member for member, named in data if member.is_parameter() and not named]

@@ -33,7 +33,7 @@ def are_records_equal(one, other):
         return False
     if not kind.equal:
         return one.is_itself(other)
-    one.check_set(other)
+    one.check_compared(other)
     return _are_items_equal(one.compared_values(), other.compared_values())
 
 
@@ -65,7 +65,7 @@ def order_of_records(one, other):
     """Returns -1, 0 or 1 for two records, of which the first one has a kind with order."""
     if one.kind != other.kind:
         raise NotOrdered()
-    one.check_set(other)
+    one.check_compared(other)
     return _order_of_items(one.compared_values(), other.compared_values())
 
 

@@ -57,18 +57,24 @@ class Record(Fielded):
         """Returns the values of all fields that are set as a new list, in any order."""
         return list(self._values.values())
 
-    def values_of(self, names):
-        """Returns the values of these fields as a new list; raises Unset for the first one that is not set."""
-        for name in names:
-            if name not in self._values:
-                raise Unset(name)
+    def present_values(self):
+        """Returns a new dict from the names of the fields that are set to their values, in any order."""
+        return dict(self._values)
+
+    def key_values(self):
+        """Returns the values of the fields that count in keys; raises Unset for the first one that is not set."""
+        names = self._kind.key_names
+        if len(self._values) < len(self._kind.field_names):
+            for name in names:
+                if name not in self._values:
+                    raise Unset(name)
         return [self._values[name] for name in names]
 
     def compared_values(self):
-        """Returns the values of the fields with compare, all of which are known to be set, as a new list."""
+        """Returns the values of the fields with compare, all of which are known to be set."""
         return [self._values[name] for name in self._kind.compare_names]
 
-    def check_set(self, other):
+    def check_compared(self, other):
         """Raises Unset for the first field with compare that is not set in one of two records of this kind."""
         many = len(self._kind.field_names)
         if len(self._values) == many and len(other._values) == many:

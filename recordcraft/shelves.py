@@ -1,7 +1,7 @@
 """Shelves: entries for keyable values."""
 
 from recordcraft.errors import NoEntry, NotKeyable
-from recordcraft.keyed import is_matching, key_values
+from recordcraft.keyed import is_matching
 from recordcraft.records import are_equal, is_keyable
 from recordcraft.sorts import sort_of
 
@@ -95,7 +95,7 @@ def _mark_of(value):
     if sort != "record":
         return f"{sort} {value}"
     if value.kind.equal:
-        return _mark_of_parts(value.kind.name, key_values(value))
+        return _mark_of_parts(value.kind.name, value.key_values())
     return value.kind.name
 
 

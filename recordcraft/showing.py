@@ -5,8 +5,11 @@ from recordcraft.sorts import sort_of
 
 def text_of(value):
     """Returns the text by which a value is shown."""
+    # The sorts that occur most often are known by their classes, without a call.
     if type(value) is int:
         return str(value)
+    if type(value) is list:
+        return f"[{_texts_of(value)}]"
     sort = sort_of(value)
     if sort == "text":
         return _quoted(value)
@@ -26,6 +29,8 @@ def _texts_of(items):
 
 
 def _quoted(text):
+    if text.isalnum():
+        return f'"{text}"'
     # The backslash comes first, since the others bring new ones.
     escaped = text.replace("\\", "\\\\").replace("\"", "\\\"").replace("\n", "\\n")
     return f'"{escaped}"'
@@ -40,12 +45,7 @@ def _text_of_record(record):
     kind = record.kind
     if not kind.show:
         return f"{kind.name}(...)"
-    values = dict(record.entries())
-    inside = ", ".join([_text_of_field(values, field.name) for field in kind.fields if field.show])
+    values = record.present_values()
+    inside = ", ".join([f"{name}={text_of(values[name])}" if name in values else f"{name}=unset"
+                        for name in kind.show_names])
     return f"{kind.name}({inside})"
-
-
-def _text_of_field(values, name):
-    if name not in values:
-        return f"{name}=unset"
-    return f"{name}={text_of(values[name])}"

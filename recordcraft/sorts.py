@@ -4,6 +4,7 @@ from recordcraft.errors import TooDeep
 
 MAX_LEVELS = 50
 MAX_VALUES = 5000
+# Where a level gets more values than this, it is looked first whether there are too many levels below it.
 WIDE = 50
 SIMPLE_SORTS = ("none", "truth", "integer", "text")
 
@@ -64,6 +65,8 @@ def _check_levels(level, many):
         for part in level:
             if type(part) is list or type(part) is tuple:
                 row = part
+            elif type(part) is dict:
+                row = list(part.values())
             elif type(part) is int or type(part) is str or part is None or type(part) is bool:
                 continue
             else:
@@ -98,8 +101,8 @@ def _parts_of(value):
         return value
     if isinstance(value, Fielded):
         return value.parts()
-    if isinstance(value, (tuple, list)):
-        return value
     if isinstance(value, dict):
         return list(value.values())
+    if isinstance(value, (tuple, list)):
+        return value
     return ()

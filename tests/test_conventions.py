@@ -1,11 +1,12 @@
 """The conventions [0] to [4], and the differences from CPython."""
 
+import inspect
 import itertools
 import pathlib
 import unittest
 
 import recordcraft
-from recordcraft import copies, kinds, lines, members, records, shelves, sorting
+from recordcraft import copies, kinds, lines, members, plain, records, shelves, sorting, tables, texts, workshops
 from recordcraft.errors import InvalidAnswer, InvalidKind, InvalidMember, NotInLine, RecordcraftError
 from recordcraft.kinds import Kind
 from recordcraft.members import Field, Hook, InitOnly, Method
@@ -21,10 +22,56 @@ INTERFACE = {
     copies: ("changed", "changed_by", "deep_copy"),
     shelves: ("Shelf",),
     sorting: ("sorted_values",),
+    plain: ("plain", "Book"),
+    workshops: ("Workshop", "DistinctWorkshop"),
+    texts: ("read_book",),
+    tables: ("record_table",),
 }
 
 
+SIGNATURES = {
+    records: {"are_equal": "(one, other)", "compare": "(one, other)", "is_keyable": "(value)",
+              "is_same_key": "(one, other)", "shown": "(value)"},
+    records.Record: {"put": "(self, name, value)", "entries": "(self)", "call": "(self, name, *values)",
+                     "call_above": "(self, kind, name, *values)", "hook_above": "(self, kind, *values)"},
+    members.Field: {"__init__": "(self, name, **options)", "of": "(name, options)", "is_key": "(self)"},
+    members.InitOnly: {"__init__": "(self, name, **options)", "of": "(name, options)"},
+    members.Shared: {"__init__": "(self, name, value)"},
+    members.Method: {"__init__": "(self, name, function)"},
+    members.Hook: {"__init__": "(self, function)"},
+    lines: {"check_ring": "(above, ring)"},
+    kinds.Kind: {"__init__": "(self, name, *members, above=(), **options)",
+                 "of": "(name, members, above=(), options=None)", "is_below": "(self, other)", "shared": "(self, name)",
+                 "signature": "(self)", "flat": "(self, name)", "bind": "(self, values, named)",
+                 "make": "(self, *values, **named)", "build": "(self, values, named)"},
+    copies: {"changed": "(record, **changes)", "changed_by": "(record, changes)", "deep_copy": "(value)"},
+    shelves.Shelf: {"keep": "(self, value, entry)", "take": "(self, value)", "pairs": "(self)"},
+    sorting: {"sorted_values": "(values, *, by=None, down=False)"},
+    plain: {"plain": "(value)"},
+    plain.Book: {"__init__": "(self, *kinds)", "read": "(self, data)"},
+    workshops.Workshop: {"__init__": "(self, book)", "add": "(self, name, kind, values=(), named=None)",
+                         "fill": "(self, name, field, value)", "drop": "(self, name)", "undo": "(self)",
+                         "clash": "(self, kind, values=(), named=None)"},
+    workshops.DistinctWorkshop: {"__init__": "(self, book)", "add": "(self, name, kind, values=(), named=None)",
+                                 "fill": "(self, name, field, value)"},
+    texts: {"read_book": "(text)"},
+    tables: {"record_table": "(records, *names)"},
+}
+PROPERTIES = {records.Record: ("kind",), plain.Book: ("kind_names",), workshops.Workshop: ("record_names", "log")}
+
+
 class PlaceTest(unittest.TestCase):
+    def test_names_of_parameters(self):
+        for owner, told in SIGNATURES.items():
+            for name, signature in told.items():
+                self.assertIn(name, vars(owner))
+                self.assertEqual(str(inspect.signature(getattr(owner, name))), signature, name)
+
+    def test_properties(self):
+        for owner, names in PROPERTIES.items():
+            for name in names:
+                self.assertIsInstance(vars(owner)[name], property)
+
     def test_interface_is_defined_where_it_is_listed(self):
         for module, names in INTERFACE.items():
             for name in names:

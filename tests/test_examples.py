@@ -51,6 +51,43 @@ EXAMPLES = {
 >>> [one["b"] for one in sorted_values(some)], [one["b"] for one in sorted_values(some, by="b", down=True)]
 ([2, 1, 3], [3, 2, 1])
 """,
+    "plain": r"""
+>>> from recordcraft.kinds import Kind
+>>> from recordcraft.members import Field
+>>> from recordcraft.plain import Book, plain
+>>> point = Kind("Point", Field("x"), Field("y", default=0), order=True, frozen=True)
+>>> data = plain([point.make(1, (2, True))])
+>>> data, Book(point).read(data) == [point.make(1, (2, True))]
+(['list', ['record', 'Point', ['x', 1], ['y', ['tuple', 2, True]]]], True)
+""",
+    "workshops": r"""
+>>> from recordcraft.kinds import Kind
+>>> from recordcraft.members import Field
+>>> from recordcraft.plain import Book
+>>> from recordcraft.workshops import DistinctWorkshop
+>>> shop = DistinctWorkshop(Book(Kind("Item", Field("x"), Field("y", default=0))))
+>>> shop.add("a", "Item", (1,))
+>>> shop.add("b", "Item", (2,), {"y": 5})
+>>> shop.fill("a", "y", 7)
+>>> shop.undo()
+>>> shop["a"]["y"], shop.record_names, "c" in shop, shop.clash("Item", (1,)), shop.clash("Item", (3,))
+(0, ('a', 'b'), False, 'a', None)
+""",
+    "texts": r"""
+>>> from recordcraft.texts import read_book
+>>> text = "kind Base\nfield x\nkind Spot order above Base\nfield y no_show = 3\nshared top = None"
+>>> book = read_book(text)
+>>> book.kind_names, book["Spot"].signature(), book["Spot"].shared("top"), book["Spot"].order
+(('Base', 'Spot'), '(x, y=3)', None, True)
+""",
+    "tables": r"""
+>>> from recordcraft.kinds import Kind
+>>> from recordcraft.members import Field
+>>> from recordcraft.tables import record_table
+>>> point = Kind("Point", Field("x"), Field("y", default=0), order=True, frozen=True)
+>>> record_table([point.make(1, "abcdefghijkl"), point.make(22)], "x", "y")
+'x          | y         \n1          | "abcdefghi\n22         | 0         '
+""",
 }
 
 

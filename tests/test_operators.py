@@ -90,8 +90,8 @@ def changed_in(node):
 class OperatorsTest(unittest.TestCase):
     def test_the_ones_that_are_looked_at(self):
         names = {node.name for node in reached()}
-        for name in ("__eq__", "__lt__", "__le__", "__contains__", "__getitem__", "__len__", "__bool__", "kind",
-                     "check_depth", "is_equal", "parts", "can_be_key"):
+        for name in ("__eq__", "__lt__", "__le__", "__contains__", "__getitem__", "__len__", "__bool__", "__add__",
+                     "kind", "kind_names", "record_names", "log", "check_depth", "is_equal", "parts", "can_be_key"):
             self.assertIn(name, names)
 
     def test_no_function_that_yields_is_reached(self):

@@ -407,6 +407,10 @@ class DepthTest(CraftTestCase):
         self.assertIs(are_equal(Number(5), 5), True)
         self.assertIs(are_equal([Number(5)], Row([5])), True)
         self.assertIs(are_equal(Table(a=Row()), {"a": []}), True)
+        for value, other in (([1], Row([1, 2])), (Row([1, 2]), [1, 3]), (Table(a=1), {"a": 2}), (Number(5), True)):
+            self.assertIs(are_equal(value, other), False)
         self.check_same(compare((Number(5),), (6,)), -1)
+        self.check_same(compare(7, Number(6)), 1)
+        self.check_same(compare(Number(7), 7), 0)
         self.check_error(TooDeep, {}, shown, Row([0] * 5000))
         self.check_error(TooDeep, {}, shown, [Table(a=Row([0] * 4998))])
