@@ -16,8 +16,8 @@ BUILTINS = {"len", "range", "enumerate", "zip", "min", "max", "sum", "abs", "sor
 DOUBLE = {"__init__", "__eq__", "__len__", "__bool__", "__iter__", "__lt__", "__le__", "__add__", "__contains__",
           "__getitem__", "__setitem__", "__slots__"}
 METHODS = {"append", "extend", "get", "index", "items", "join", "pop", "remove", "replace", "setdefault", "update",
-           "values", "split", "startswith", "endswith", "isdigit", "isalnum", "count", "copy", "insert", "find", "ljust",
-           "strip", "partition", "clear", "reverse", "keys"}
+           "values", "split", "startswith", "endswith", "isdigit", "isalnum", "count", "copy", "insert", "find",
+           "ljust", "strip", "partition", "clear", "reverse", "keys"}
 STATEMENTS = (ast.FunctionDef, ast.ClassDef, ast.Return, ast.Delete, ast.Assign, ast.AugAssign, ast.For, ast.While,
               ast.If, ast.Raise, ast.Try, ast.Assert, ast.ImportFrom, ast.Expr, ast.Pass, ast.Break, ast.Continue)
 BARRED = {"register", "mro", "elements", "open", "input", "law", "version_info", "with_traceback", "add_note",
