@@ -1,6 +1,6 @@
 """Which values can be keys, and which ones are the same key. The values are known not to be too deep."""
 
-from recordcraft.sorts import SIMPLE_SORTS, sort_of
+from recordcraft.sorts import SIMPLE_SORTS, Fielded, sort_of
 
 
 def can_be_key(value):
@@ -10,9 +10,9 @@ def can_be_key(value):
         return True
     if type(value) is tuple:
         return _can_all_be_keys(value)
-    sort = sort_of(value)
-    if sort == "record":
+    if isinstance(value, Fielded):
         return _can_record_be_key(value)
+    sort = sort_of(value)
     if sort == "tuple":
         return _can_all_be_keys(value)
     return sort in SIMPLE_SORTS
@@ -25,11 +25,11 @@ def is_matching(one, other):
             return one == other
         if type(one) is tuple:
             return _are_items_matching(one, other)
+    if isinstance(one, Fielded):
+        return isinstance(other, Fielded) and _are_records_matching(one, other)
     sort = sort_of(one)
     if sort != sort_of(other):
         return False
-    if sort == "record":
-        return _are_records_matching(one, other)
     if sort == "tuple":
         return _are_items_matching(one, other)
     return one == other

@@ -1,7 +1,7 @@
 """When two values are equal, and which one comes first. The values are known not to be too deep."""
 
 from recordcraft.errors import NotOrdered
-from recordcraft.sorts import SIMPLE_SORTS, sort_of
+from recordcraft.sorts import SIMPLE_SORTS, Fielded, sort_of
 
 ORDERED_SORTS = ("truth", "integer", "text")
 
@@ -14,11 +14,11 @@ def is_equal(one, other):
             return one == other
         if type(one) is list or type(one) is tuple:
             return len(one) == len(other) and _are_items_equal(one, other)
+    if isinstance(one, Fielded):
+        return isinstance(other, Fielded) and are_records_equal(one, other)
     sort = sort_of(one)
     if sort != sort_of(other):
         return False
-    if sort == "record":
-        return are_records_equal(one, other)
     if sort in SIMPLE_SORTS:
         return one == other
     if sort == "dict":
@@ -47,13 +47,13 @@ def order_of(one, other):
             return 0 if one == other else -1 if one < other else 1
         if type(one) is tuple:
             return _order_of_items(one, other)
+    if isinstance(one, Fielded) and isinstance(other, Fielded) and one.kind.order:
+        return order_of_records(one, other)
     sort = sort_of(one)
     if sort != sort_of(other):
         raise NotOrdered()
     if sort == "tuple":
         return _order_of_items(one, other)
-    if sort == "record" and one.kind.order:
-        return order_of_records(one, other)
     if is_equal(one, other):
         return 0
     if sort not in ORDERED_SORTS:

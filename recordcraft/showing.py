@@ -1,31 +1,41 @@
 """The texts by which values are shown. The values are known not to be too deep."""
 
-from recordcraft.sorts import sort_of
+from recordcraft.sorts import Fielded, sort_of
 
 
 def text_of(value):
     """Returns the text by which a value is shown."""
     # The sorts that occur most often are known by their classes, without a call.
-    if type(value) is int:
+    if type(value) is int or value is None or type(value) is bool:
         return str(value)
-    if type(value) is list:
-        return f"[{_texts_of(value)}]"
-    sort = sort_of(value)
-    if sort == "text":
+    if type(value) is str:
         return _quoted(value)
+    if type(value) is list:
+        return _text_of_list(value)
+    if isinstance(value, Fielded):
+        return _text_of_record(value)
+    sort = sort_of(value)
     if sort == "tuple":
-        return f"({_texts_of(value)},)" if len(value) == 1 else f"({_texts_of(value)})"
-    if sort == "list":
-        return f"[{_texts_of(value)}]"
+        return _text_of_tuple(value)
     if sort == "dict":
         return _text_of_dict(value)
-    if sort == "record":
-        return _text_of_record(value)
-    return str(value)
+    if sort == "list":
+        return _text_of_list(value)
+    return _quoted(value) if sort == "text" else str(value)
 
 
-def _texts_of(items):
-    return ", ".join([str(item) if type(item) is int else text_of(item) for item in items])
+def _text_of_list(value):
+    if not value:
+        return "[]"
+    inside = ", ".join([str(item) if type(item) is int else text_of(item) for item in value])
+    return f"[{inside}]"
+
+
+def _text_of_tuple(value):
+    if not value:
+        return "()"
+    inside = ", ".join([str(item) if type(item) is int else text_of(item) for item in value])
+    return f"({inside},)" if len(value) == 1 else f"({inside})"
 
 
 def _quoted(text):
@@ -37,6 +47,8 @@ def _quoted(text):
 
 
 def _text_of_dict(value):
+    if not value:
+        return "{}"
     inside = ", ".join([f"{_quoted(key)}: {text_of(value[key])}" for key in value])
     return "{" + inside + "}"
 

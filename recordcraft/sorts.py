@@ -69,6 +69,8 @@ def _check_levels(level, many):
                 row = list(part.values())
             elif type(part) is int or type(part) is str or part is None or type(part) is bool:
                 continue
+            elif isinstance(part, Fielded):
+                row = part.parts()
             else:
                 row = _parts_of(part)
             # Counting before gathering keeps this quick where a part occurs very often.

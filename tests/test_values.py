@@ -404,6 +404,12 @@ class DepthTest(CraftTestCase):
 
         class Table(dict):
             pass
+
+        class Word(str):
+            pass
+
+        class Pair(tuple):
+            pass
         self.assertIs(are_equal(Number(5), 5), True)
         self.assertIs(are_equal([Number(5)], Row([5])), True)
         self.assertIs(are_equal(Table(a=Row()), {"a": []}), True)
@@ -412,5 +418,13 @@ class DepthTest(CraftTestCase):
         self.check_same(compare((Number(5),), (6,)), -1)
         self.check_same(compare(7, Number(6)), 1)
         self.check_same(compare(Number(7), 7), 0)
+        self.check_same(compare(Pair((1, 2)), (1, 3)), -1)
+        self.check_same(compare(Word("b"), "a"), 1)
+        values = [Row([1]), Table(a=1), Word('"'), Pair((2,)), Number(5)]
+        self.assertEqual(shown(values), '[[1], {"a": 1}, "\\"", (2,), 5]')
+        self.assertIs(is_keyable(Pair((Number(1), Word("a")))), True)
+        self.assertIs(is_keyable(Pair((Row(),))), False)
+        self.assertIs(is_same_key(Pair((Number(1), Word("a"))), (1, "a")), True)
+        self.assertIs(is_same_key(Pair((1,)), (True,)), False)
         self.check_error(TooDeep, {}, shown, Row([0] * 5000))
         self.check_error(TooDeep, {}, shown, [Table(a=Row([0] * 4998))])
